@@ -1,0 +1,1 @@
+"""Anymeaning: programs alike whatever their deeds mean."""

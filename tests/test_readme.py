@@ -1,0 +1,19 @@
+"""README.md: what it shows is what the program tells."""
+
+import doctest
+import pathlib
+import unittest
+
+README = pathlib.Path(__file__).resolve().parent.parent / "README.md"
+
+
+class ReadmeTest(unittest.TestCase):
+    def test_examples(self):
+        results = doctest.testfile(str(README), module_relative=False, encoding="utf-8")
+        self.assertGreater(results.attempted, 0)
+        self.assertEqual(results.failed, 0)
+
+    def test_tells_of_each_module_and_of_the_tests(self):
+        words = README.read_text(encoding="utf-8")
+        for name in ("anymeaning.errors", "anymeaning.signs", "anymeaning.signwords", "anymeaning.steps", ".ci/run"):
+            self.assertIn(name, words)
