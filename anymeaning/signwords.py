@@ -19,11 +19,11 @@ def read_test(text):
     return test
 
 
-class SignReader:
-    """Goes through the words of a test from the left."""
+class WordReader:
+    """Goes through words from the left; the base of the readers."""
 
     def __init__(self, words):
-        self.words = words
+        self.words = list(words)
         self.place = 0
 
     def at_end(self):
@@ -35,6 +35,10 @@ class SignReader:
             return False
         self.place += 1
         return True
+
+
+class SignReader(WordReader):
+    """Reads a test from its words."""
 
     def read_either(self):
         test = self.read_both()

@@ -1,5 +1,7 @@
 """Programs: what they do first, their letters and their own texts."""
 
+DEEDS = ("P", "Q", "R", "S", "T")
+
 DONE = "done"
 STOPPED = "stopped"
 HUNG = "hung"

@@ -25,6 +25,18 @@ WORDS_LEFT_OUT = re.compile(
     r"|NamedTuple|TypedDict|TYPE_CHECKING|abstractmethod)\b|dataclass|overload|contextmanager"
 )
 
+NAMES_LEFT_OUT = set(
+    "register mro elements open input version_info with_traceback add_note attrgetter breakpoint builtins compile "
+    "copyright credits delattr dir eval exec exit gc getattr globals hasattr help id importlib license locals "
+    "methodcaller os quit setattr super type vars sys chr print format format_map".split()
+)
+
+METHODS = set(
+    "append clear copy count endswith extend find get index insert isalnum isalpha isdigit islower isspace isupper "
+    "items join keys ljust lower lstrip partition pop remove replace reverse rfind rjust rpartition rsplit rstrip "
+    "setdefault split splitlines startswith strip update upper values zfill bit_length".split()
+)
+
 
 class FormTest(unittest.TestCase):
     def setUp(self):
@@ -78,3 +90,159 @@ class FormTest(unittest.TestCase):
         for name, node in self.nodes():
             if isinstance(node, ast.Constant):
                 self.assertNotIsInstance(node.value, (float, complex, bytes), (name, node.lineno))
+
+    def test_top_of_a_module(self):
+        for path, tree in self.trees.items():
+            bound = []
+            for number, node in enumerate(tree.body):
+                if isinstance(node, ast.Expr):
+                    self.assertEqual(number, 0, (path.name, node.lineno))
+                    self.assertIsInstance(node.value.value, str)
+                elif isinstance(node, ast.Assign):
+                    self.assertEqual(len(node.targets), 1)
+                    bound.append(node.targets[0].id)
+                    for part in ast.walk(node.value):
+                        self.assertIsInstance(part, (ast.Constant, ast.Tuple, ast.Name, ast.expr_context), path.name)
+                elif isinstance(node, ast.ImportFrom):
+                    bound += [name.name for name in node.names]
+                    self.assertTrue(all(name.asname is None and name.name != "*" for name in node.names))
+                else:
+                    self.assertIsInstance(node, (ast.FunctionDef, ast.ClassDef), (path.name, node.lineno))
+                    bound.append(node.name)
+            self.assertEqual(len(bound), len(set(bound)), path.name)
+
+    def test_statements(self):
+        known = (
+            ast.Module, ast.FunctionDef, ast.ClassDef, ast.ImportFrom, ast.Assign, ast.AugAssign, ast.If, ast.While,
+            ast.For, ast.Return, ast.Break, ast.Continue, ast.Pass, ast.Raise, ast.Try, ast.Expr,
+        )
+        for name, node in self.nodes():
+            if isinstance(node, ast.stmt):
+                self.assertIsInstance(node, known, (name, node.lineno))
+            if isinstance(node, (ast.For, ast.While)):
+                self.assertEqual(node.orelse, [], (name, node.lineno))
+            if isinstance(node, ast.Assign):
+                self.assertEqual(len(node.targets), 1, (name, node.lineno))
+                self.assertNotIsInstance(node.targets[0], (ast.Tuple, ast.List), (name, node.lineno))
+            if isinstance(node, ast.Try):
+                self.assertEqual(node.finalbody, [], (name, node.lineno))
+                for handler in node.handlers:
+                    self.assertIsInstance(handler.type, ast.Name, (name, node.lineno))
+                    self.assertTrue(handler.type.id.startswith("No"), (name, node.lineno))
+
+    def test_expressions(self):
+        for name, node in self.nodes():
+            if isinstance(node, ast.ListComp):
+                self.assertEqual(len(node.generators), 1, (name, node.lineno))
+                self.assertLessEqual(len(node.generators[0].ifs), 1, (name, node.lineno))
+            if isinstance(node, ast.Compare):
+                for operator, right in zip(node.ops, node.comparators):
+                    if isinstance(operator, (ast.Is, ast.IsNot)):
+                        self.assertIn(right.value, (None, True, False), (name, node.lineno))
+            if isinstance(node, (ast.Set, ast.JoinedStr, ast.Pow)):
+                self.fail((name, node))
+            if isinstance(node, ast.Constant) and isinstance(node.value, str):
+                self.assertNotIn(chr(37), node.value, (name, node.lineno))
+            if isinstance(node, ast.arg):
+                self.assertIsNone(node.annotation, (name, node.lineno))
+            if isinstance(node, ast.Call) and isinstance(node.func, ast.Name) and hasattr(builtins, node.func.id):
+                for keyword in node.keywords:
+                    self.assertIn(keyword.arg, ("key", "reverse", "default", "start", "strict"), (name, node.lineno))
+
+    def test_names_are_plain(self):
+        for name, node in self.nodes():
+            for word in (getattr(node, "id", None), getattr(node, "arg", None), getattr(node, "attr", None)):
+                if isinstance(word, str) and word != "__init__":
+                    self.assertRegex(word, r"^[A-Za-z][A-Za-z0-9_]*$", name)
+                    self.assertNotIn(word, NAMES_LEFT_OUT, name)
+
+    def test_locals_have_names_of_their_own(self):
+        for path, tree in self.trees.items():
+            taken = set(dir(builtins))
+            for node in tree.body:
+                if isinstance(node, ast.ClassDef):
+                    taken.add(node.name)
+                if isinstance(node, ast.ImportFrom):
+                    taken.update(name.name for name in node.names)
+            for node in ast.walk(tree):
+                if isinstance(node, ast.arg):
+                    self.assertNotIn(node.arg, taken, (path.name, node.lineno))
+                if isinstance(node, ast.Name) and isinstance(node.ctx, ast.Store):
+                    self.assertNotIn(node.id, taken, (path.name, node.lineno))
+
+    def test_imports_from_the_file_that_defines_the_name_and_in_no_ring(self):
+        defined = {}
+        drawn = {}
+        for path, tree in self.trees.items():
+            module = "anymeaning." + path.stem
+            defined[module] = {node.name for node in tree.body if isinstance(node, (ast.FunctionDef, ast.ClassDef))}
+            defined[module] |= {node.targets[0].id for node in tree.body if isinstance(node, ast.Assign)}
+            drawn[module] = [node for node in tree.body if isinstance(node, ast.ImportFrom)]
+        for module, rows in drawn.items():
+            for row in rows:
+                for name in row.names:
+                    self.assertIn(name.name, defined[row.module], module)
+        left = {module: {row.module for row in rows} for module, rows in drawn.items()}
+        while left:
+            free = [module for module, needs in left.items() if not needs & set(left)]
+            self.assertTrue(free, left)
+            for module in free:
+                left.pop(module)
+
+    def test_methods_and_values_have_names_of_their_own(self):
+        methods = set()
+        values = set()
+        for name, node in self.nodes():
+            if isinstance(node, ast.ClassDef):
+                own = [part.name for part in node.body if isinstance(part, ast.FunctionDef)]
+                self.assertEqual(len(own), len(set(own)), (name, node.name))
+                methods.update(own)
+            if isinstance(node, ast.Attribute) and isinstance(node.ctx, ast.Store):
+                values.add(node.attr)
+                self.assertEqual(node.value.id, "self", (name, node.lineno))
+        methods.discard("__init__")
+        self.assertEqual(methods & values, set())
+        pythons = set()
+        for kind in (str, int, list, dict, set, bytes, tuple):
+            pythons.update(dir(kind))
+        self.assertEqual((methods | values) & pythons, set())
+        for name, node in self.nodes():
+            if isinstance(node, ast.Attribute) and node.attr not in methods | values | {"__init__"}:
+                self.assertIn(node.attr, METHODS, (name, node.lineno))
+
+    def test_classes_are_not_handed_on(self):
+        classes = {node.name for _, node in self.nodes() if isinstance(node, ast.ClassDef)}
+        for path, tree in self.trees.items():
+            fit = set()
+            for node in ast.walk(tree):
+                if isinstance(node, ast.Call):
+                    fit.add(node.func)
+                    if isinstance(node.func, ast.Name) and node.func.id == "isinstance":
+                        fit.update(ast.walk(node.args[1]))
+                    if isinstance(node.func, ast.Attribute):
+                        fit.add(node.func.value)
+                if isinstance(node, ast.ClassDef):
+                    self.assertLessEqual(len(node.bases), 1)
+                    fit.update(node.bases)
+                if isinstance(node, ast.ExceptHandler):
+                    fit.add(node.type)
+            for node in ast.walk(tree):
+                if isinstance(node, ast.Name) and node.id in classes:
+                    self.assertIn(node, fit, (path.name, node.lineno))
+
+    def test_walked_on_the_spot(self):
+        walkers = {"zip", "enumerate", "reversed", "range"}
+        for path, tree in self.trees.items():
+            fit = set()
+            for node in ast.walk(tree):
+                if isinstance(node, (ast.For, ast.comprehension)):
+                    fit.add(node.iter)
+                if isinstance(node, ast.Call) and isinstance(node.func, ast.Name):
+                    if node.func.id in ("list", "tuple", "dict", "sorted", "sum", "any", "all", "enumerate", "zip"):
+                        fit.update(node.args[:1])
+            for node in ast.walk(tree):
+                if isinstance(node, ast.Call) and node not in fit:
+                    if isinstance(node.func, ast.Name):
+                        self.assertNotIn(node.func.id, walkers, (path.name, node.lineno))
+                    if isinstance(node.func, ast.Attribute):
+                        self.assertNotIn(node.func.attr, ("items", "keys", "values"), (path.name, node.lineno))

@@ -5,6 +5,7 @@ import pathlib
 import unittest
 
 README = pathlib.Path(__file__).resolve().parent.parent / "README.md"
+MODULES = ("errors", "signs", "signwords", "steps", "texts", "worlds", "runs", "rooms")
 
 
 class ReadmeTest(unittest.TestCase):
@@ -15,5 +16,6 @@ class ReadmeTest(unittest.TestCase):
 
     def test_tells_of_each_module_and_of_the_tests(self):
         words = README.read_text(encoding="utf-8")
-        for name in ("anymeaning.errors", "anymeaning.signs", "anymeaning.signwords", "anymeaning.steps", ".ci/run"):
-            self.assertIn(name, words)
+        for name in MODULES:
+            self.assertIn(f"`anymeaning.{name}`", words)
+        self.assertIn(".ci/run", words)

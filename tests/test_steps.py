@@ -4,7 +4,7 @@ import unittest
 
 from anymeaning.signs import Both, Either, No, Not, Yes
 from anymeaning.steps import Choice, Deed, Loop, Row, Skip, Step, Stop
-from tests.helper import A, B, C, D, DEEDS, P, Q, R, SETTINGS, all_of, shape, steps_by_size
+from tests.helper import A, B, C, D, DEEDS, P, Q, R, SETTINGS, all_of, play, shape, steps_by_size
 
 KINDS = (Skip, Stop, Deed, Row, Choice, Loop)
 
@@ -215,32 +215,6 @@ class FirstTest(unittest.TestCase):
                 else:
                     self.assertIn(what, ("P", "Q"))
                     self.assertIsInstance(left, Step)
-
-
-def play(step, now):
-    """Runs a program as a plain interpreter does: yields its deeds, gives back its end.
-
-    It keeps no program that is left; now is a dict with the setting and the number of deeds done.
-    """
-    if isinstance(step, Deed):
-        now["deeds"] += 1
-        yield step.name
-        return "done"
-    if isinstance(step, Row):
-        end = yield from play(step.head, now)
-        return (yield from play(step.tail, now)) if end == "done" else end
-    if isinstance(step, Choice):
-        return (yield from play(step.yes if step.test.holds(now["setting"]) else step.no, now))
-    if isinstance(step, Loop):
-        while step.test.holds(now["setting"]):
-            deeds = now["deeds"]
-            end = yield from play(step.body, now)
-            if end != "done":
-                return end
-            if now["deeds"] == deeds:
-                return "hung"
-        return "done"
-    return "done" if isinstance(step, Skip) else "stopped"
 
 
 def played(step, settings):
