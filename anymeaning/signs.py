@@ -3,6 +3,16 @@
 # A letter's place here is its bit in a setting.
 LETTERS = ("a", "b", "c", "d")
 SETTINGS = 16
+# The mask of all settings.
+EVERY = 65535
+
+
+def is_in(setting, mask):
+    return (mask >> setting) & 1 == 1
+
+
+def settings_in(mask):
+    return [setting for setting in range(SETTINGS) if is_in(setting, mask)]
 
 
 def in_brackets(text):

@@ -2,6 +2,8 @@
 
 import random
 
+from anymeaning.rooms import Rooms
+from anymeaning.sayings import Behind, Nowhere, Through
 from anymeaning.signs import Both, Either, Named, No, Not, Yes
 from anymeaning.steps import Choice, Deed, Loop, Row, Skip, Stop
 from anymeaning.worlds import World, listed_world
@@ -22,6 +24,9 @@ FIELDS = {
     Row: ("head", "tail"),
     Choice: ("test", "yes", "no"),
     Loop: ("test", "body"),
+    Nowhere: ("test",),
+    Behind: ("before", "deed", "after"),
+    Through: ("test", "deed"),
 }
 
 A = Named("a")
@@ -36,7 +41,7 @@ T = Deed("T")
 
 
 def shape(thing):
-    """A test or a program as tuples of its very classes and all of its fields."""
+    """A test, a program or a saying as tuples of its very classes and all of its fields."""
     if isinstance(thing, str):
         return thing
     kind = type(thing)
@@ -164,3 +169,114 @@ def endless_world():
         lambda state: (state * state // 3 + state) % 16,
         lambda deed, state: 3 * state - 40 * "PQRST".index(deed) if abs(state) < 10 ** 6 else state // 7,
     )
+
+
+def some_saying(chance):
+    """A saying, by chance, of tests of some parts."""
+    one = some_test(chance, chance.choice([1, 1, 2, 3, 4]))
+    two = some_test(chance, chance.choice([1, 1, 2, 3, 4]))
+    deed = chance.choice(DEEDS)
+    return chance.choice([Nowhere(Both(one, two)), Behind(one, deed, two), Behind(one, deed, two), Through(one, deed)])
+
+
+def some_sayings(chance, most=8):
+    return [some_saying(chance) for _ in range(chance.randint(0, most))]
+
+
+def plain_good(sayings):
+    """The good settings by [22], as a set, left out one by one."""
+    good = {setting for setting in SETTINGS if not any(saying.bars(setting) for saying in sayings)}
+    while True:
+        bad = [
+            setting for setting in good
+            if any(not plain_later(sayings, good, deed, setting) for deed in DEEDS)
+        ]
+        if not bad:
+            return good
+        good.remove(bad[0])
+
+
+def plain_later(sayings, settings, deed, setting):
+    """Those of the settings that all sayings let by."""
+    return {later for later in settings if all(saying.lets(deed, setting, later) for saying in sayings)}
+
+
+def mask_of(settings):
+    return sum(1 << setting for setting in settings)
+
+
+def is_deed(door):
+    return door[0] in tuple(DEEDS)
+
+
+class Plain:
+    """Two programs side by side under sayings, by sets of triples as [26] tells."""
+
+    def __init__(self, one, other, sayings):
+        self.one = Rooms(one).doors
+        self.other = Rooms(other).doors
+        self.good = plain_good(sayings)
+        self.ways = {
+            (deed, setting): plain_later(sayings, self.good, deed, setting) for deed in DEEDS for setting in SETTINGS
+        }
+
+    def doors(self, triple):
+        return (self.one[triple[0]][triple[2]], self.other[triple[1]][triple[2]])
+
+    def unlike(self, triple):
+        left, right = self.doors(triple)
+        return left[0] != right[0]
+
+    def next_triples(self, triple):
+        left, right = self.doors(triple)
+        if self.unlike(triple) or not is_deed(left):
+            return set()
+        return {(left[1], right[1], later) for later in self.ways[(left[0], triple[2])]}
+
+    def layers(self):
+        """Sets of triples, each with those to which one comes first by so many deeds."""
+        layer = {(0, 0, setting) for setting in self.good}
+        seen = set()
+        found = []
+        while layer:
+            found.append(layer)
+            seen |= layer
+            layer = {later for triple in layer for later in self.next_triples(triple)} - seen
+        return found
+
+    def shortest(self):
+        """The letters of a shortest word, or None."""
+        for number, layer in enumerate(self.layers()):
+            if any(self.unlike(triple) for triple in layer):
+                return number
+        return None
+
+    def table(self):
+        masks = {(0, 0): 0}
+        for layer in self.layers():
+            for one, other, setting in layer:
+                masks[(one, other)] = masks.get((one, other), 0) | 1 << setting
+        return sorted((one, other, mask) for (one, other), mask in masks.items())
+
+    def is_table(self, table):
+        """Whether a table stands, word by word as [30] tells."""
+        for one, other, mask in table:
+            if one not in range(len(self.one)) or other not in range(len(self.other)) or mask not in range(65536):
+                return False
+        triples = {(one, other, s) for one, other, mask in table for s in self.good if mask >> s & 1}
+        if not {(0, 0, setting) for setting in self.good} <= triples:
+            return False
+        return all(not self.unlike(triple) and self.next_triples(triple) <= triples for triple in triples)
+
+    def is_word(self, settings, deeds):
+        """Whether a word stands, as [29] and [30] tell."""
+        if len(settings) != len(deeds) + 1 or settings[0] not in self.good:
+            return False
+        triple = (0, 0, settings[0])
+        for deed, setting in zip(deeds, settings[1:]):
+            left, right = self.doors(triple)
+            later = (left[1], right[1], setting)
+            if left[0] != deed or later not in self.next_triples(triple):
+                return False
+            triple = later
+        return self.unlike(triple)

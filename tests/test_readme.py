@@ -5,7 +5,9 @@ import pathlib
 import unittest
 
 README = pathlib.Path(__file__).resolve().parent.parent / "README.md"
-MODULES = ("errors", "signs", "signwords", "steps", "texts", "worlds", "runs", "rooms")
+MODULES = (
+    "errors", "signs", "signwords", "steps", "texts", "worlds", "runs", "rooms", "sayings", "bonds", "saywords", "judge",
+)
 
 
 class ReadmeTest(unittest.TestCase):

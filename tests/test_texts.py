@@ -7,7 +7,7 @@ import unittest
 from anymeaning.errors import NoProgram, NoTest
 from anymeaning.signs import Both, Either, No, Not, Yes
 from anymeaning.signwords import read_test
-from anymeaning.steps import Choice, Deed, Loop, Row, Skip, Stop
+from anymeaning.steps import Choice, Loop, Row, Skip, Stop
 from anymeaning.texts import read_program
 from tests.helper import A, B, C, D, P, Q, R, S, T, all_of, shape, some_steps, steps_by_size
 
