@@ -4,6 +4,7 @@ import random
 
 from anymeaning.rooms import Rooms
 from anymeaning.sayings import Behind, Nowhere, Through
+from anymeaning.saywords import read_saying
 from anymeaning.signs import Both, Either, Named, No, Not, Yes
 from anymeaning.steps import Choice, Deed, Loop, Row, Skip, Stop
 from anymeaning.worlds import World, listed_world
@@ -171,6 +172,10 @@ def endless_world():
     )
 
 
+def sayings_of(*texts):
+    return [read_saying(text) for text in texts]
+
+
 def some_saying(chance):
     """A saying, by chance, of tests of some parts."""
     one = some_test(chance, chance.choice([1, 1, 2, 3, 4]))
@@ -181,6 +186,40 @@ def some_saying(chance):
 
 def some_sayings(chance, most=8):
     return [some_saying(chance) for _ in range(chance.randint(0, most))]
+
+
+def rewritten(chance, step):
+    """Another program that is alike to the step, by a law or two at a place by chance."""
+    if isinstance(step, Row) and chance.random() < 0.7:
+        if chance.random() < 0.5:
+            return Row(rewritten(chance, step.head), step.tail)
+        return Row(step.head, rewritten(chance, step.tail))
+    if isinstance(step, Choice) and chance.random() < 0.7:
+        return Choice(step.test, rewritten(chance, step.yes), rewritten(chance, step.no))
+    if isinstance(step, Loop) and chance.random() < 0.7:
+        return Choice(step.test, Row(step.body, step), Skip()) if step.body.letters() else step
+    test = some_test(chance, 2)
+    return chance.choice([
+        Row(step, Skip()), Row(Skip(), step), Choice(test, step, step), Choice(Yes(), step, Stop()),
+    ])
+
+
+def pairs_of_programs(seed, number, most_parts):
+    """Pairs of programs with some sayings: many alike or nearly so."""
+    chance = random.Random(seed)
+    found = []
+    while len(found) < number:
+        one = some_step(chance, chance.randint(1, most_parts), "PQ")
+        turn = chance.random()
+        if turn < 0.5:
+            other = rewritten(chance, rewritten(chance, one))
+        elif turn < 0.75:
+            other = rewritten(chance, Row(one, some_step(chance, 2, "PQ")))
+        else:
+            other = some_step(chance, chance.randint(1, most_parts), "PQ")
+        if max(len(one.letters()), len(other.letters())) <= 12:
+            found.append((one, other, some_sayings(chance, 4)))
+    return found
 
 
 def plain_good(sayings):

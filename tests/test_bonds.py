@@ -11,12 +11,9 @@ from anymeaning.signs import Both, No, Not, Yes
 from anymeaning.signwords import read_test
 from anymeaning.worlds import World, listed_world
 from tests.helper import (
-    A, B, C, D, DEEDS, SETTINGS, mask_of, plain_good, plain_later, shape, some_saying, some_sayings, some_test,
+    A, B, C, D, DEEDS, SETTINGS, mask_of, plain_good, plain_later, sayings_of, shape, some_saying, some_sayings,
+    some_test,
 )
-
-
-def sayings_of(*texts):
-    return [read_saying(text) for text in texts]
 
 
 def closed_sets_joined(sayings, settings):
@@ -277,7 +274,8 @@ class DueTest(unittest.TestCase):
             [],
             ["nowhere no", "nowhere a and not a", "behind P : no : a", "behind P : a : yes", "through P : yes",
              "through P : no", "behind Q : a and b : a or not a"],
-            ["nowhere a", "nowhere yes", "behind P : a : a", "behind P : yes : a", "through P : a", "behind T : d : no"],
+            ["nowhere a", "nowhere yes", "behind P : a : a", "behind P : yes : a", "through P : a",
+             "behind T : d : no"],
         )
 
     def test_nowhere(self):

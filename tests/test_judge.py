@@ -6,55 +6,16 @@ import unittest
 from anymeaning.judge import Alike, Apart, Verdict, judged
 from anymeaning.runs import run_from
 from anymeaning.sayings import Nowhere
-from anymeaning.saywords import read_saying
 from anymeaning.signs import Yes
 from anymeaning.steps import Choice, Loop, Row, Skip, Stop
 from anymeaning.texts import read_program
 from anymeaning.worlds import listed_world
 from tests.helper import (
-    A, B, C, DEEDS, P, Plain, Q, all_of, mask_of, plain_good, plain_later, shape, some_sayings, some_step, some_steps,
-    some_test, steps_by_size,
+    A, B, C, DEEDS, P, Plain, Q, all_of, mask_of, pairs_of_programs, plain_good, plain_later, sayings_of, shape,
+    some_steps, steps_by_size,
 )
 
 EVERY = 65535
-
-
-def sayings_of(*texts):
-    return [read_saying(text) for text in texts]
-
-
-def rewritten(chance, step):
-    """Another program that is alike to the step, by a law or two at a place by chance."""
-    if isinstance(step, Row) and chance.random() < 0.7:
-        if chance.random() < 0.5:
-            return Row(rewritten(chance, step.head), step.tail)
-        return Row(step.head, rewritten(chance, step.tail))
-    if isinstance(step, Choice) and chance.random() < 0.7:
-        return Choice(step.test, rewritten(chance, step.yes), rewritten(chance, step.no))
-    if isinstance(step, Loop) and chance.random() < 0.7:
-        return Choice(step.test, Row(step.body, step), Skip()) if step.body.letters() else step
-    test = some_test(chance, 2)
-    return chance.choice([
-        Row(step, Skip()), Row(Skip(), step), Choice(test, step, step), Choice(Yes(), step, Stop()),
-    ])
-
-
-def pairs_of_programs(seed, number, most_parts):
-    """Pairs of programs with some sayings: many alike or nearly so."""
-    chance = random.Random(seed)
-    found = []
-    while len(found) < number:
-        one = some_step(chance, chance.randint(1, most_parts), "PQ")
-        turn = chance.random()
-        if turn < 0.5:
-            other = rewritten(chance, rewritten(chance, one))
-        elif turn < 0.75:
-            other = rewritten(chance, Row(one, some_step(chance, 2, "PQ")))
-        else:
-            other = some_step(chance, chance.randint(1, most_parts), "PQ")
-        if max(len(one.letters()), len(other.letters())) <= 12:
-            found.append((one, other, some_sayings(chance, 4)))
-    return found
 
 
 class KindsTest(unittest.TestCase):

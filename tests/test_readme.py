@@ -6,7 +6,8 @@ import unittest
 
 README = pathlib.Path(__file__).resolve().parent.parent / "README.md"
 MODULES = (
-    "errors", "signs", "signwords", "steps", "texts", "worlds", "runs", "rooms", "sayings", "bonds", "saywords", "judge",
+    "errors", "signs", "signwords", "steps", "texts", "worlds", "runs", "rooms", "sayings", "bonds", "saywords",
+    "judge", "words", "marks", "short", "desk", "mazes",
 )
 
 

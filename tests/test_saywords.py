@@ -120,7 +120,9 @@ class RefusedTest(unittest.TestCase):
             ])
 
     def test_tests_that_are_none(self):
-        for test in ("e", "P", "a b", "a and", "not", "( a", "a )", "", "skip", "A", "a ; b", "Yes", "( )", "nowhere a"):
+        for test in (
+            "e", "P", "a b", "a and", "not", "( a", "a )", "", "skip", "A", "a ; b", "Yes", "( )", "nowhere a",
+        ):
             self.check([
                 f"nowhere {test}", f"behind P : {test} : a", f"behind P : a : {test}", f"through P : {test}",
                 f"behind P : {test} : {test}",
