@@ -1,17 +1,17 @@
 """Places with doors, walked under sayings: what judge.py and marks.py share."""
 
-from anymeaning.runs import ENDS
 from anymeaning.signs import SETTINGS, is_in, settings_in
+from anymeaning.steps import ENDS
 
-# What a door tells where that is which is sought.
+# What a door tells at what is sought.
 FOUND = "found"
 
 
 class Maze:
     """From a place, with each of some good settings, one walks on as door(place, setting) tells.
 
-    It tells a tuple: FOUND or an end first, or a deed and the place behind it. Each setting that may come
-    behind the deed comes.
+    It tells a tuple that begins with FOUND or an end; or a deed and the place behind it, to which one comes
+    with each setting that may come behind the deed.
     """
 
     def __init__(self, bonds, begin, starts, door):

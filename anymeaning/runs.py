@@ -1,8 +1,7 @@
 """Runs of programs in worlds."""
 
-from anymeaning.steps import DONE, HUNG, STOPPED
+from anymeaning.steps import ENDS
 
-ENDS = (DONE, STOPPED, HUNG)
 MORE = "more"
 
 

@@ -5,6 +5,7 @@ DEEDS = ("P", "Q", "R", "S", "T")
 DONE = "done"
 STOPPED = "stopped"
 HUNG = "hung"
+ENDS = ("done", "stopped", "hung")
 
 
 def in_braces(text):

@@ -102,7 +102,7 @@ class FormTest(unittest.TestCase):
                     self.assertEqual(len(node.targets), 1)
                     bound.append(node.targets[0].id)
                     for part in ast.walk(node.value):
-                        self.assertIsInstance(part, (ast.Constant, ast.Tuple, ast.Name, ast.expr_context), path.name)
+                        self.assertIsInstance(part, (ast.Constant, ast.Tuple, ast.expr_context), path.name)
                 elif isinstance(node, ast.ImportFrom):
                     bound += [name.name for name in node.names]
                     self.assertTrue(all(name.asname is None and name.name != "*" for name in node.names))

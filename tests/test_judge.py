@@ -237,6 +237,19 @@ class StandsTest(unittest.TestCase):
             self.table(self.TABLE[:number] + self.TABLE[number + 1:], False)
         self.table([], False)
 
+    def test_rows_left_out_where_one_setting_is_good(self):
+        for test, setting in (
+            ("a or b or c or d", 0), ("not a or b or c or d", 1), ("not ( a and b and c and d )", 15),
+        ):
+            sayings = sayings_of("nowhere " + test)
+            table = [(0, 0, 1 << setting), (1, 1, 1 << setting)]
+            self.assertEqual(judged(P, P, sayings).table, table)
+            for changed, told in (
+                (table, True), (table[:1], False), (table[1:], False), ([], False), ([(0, 0, 0)] + table[1:], False),
+                (table[:1] + [(1, 1, 0)], False), (table[:1] + [(1, 1, EVERY - (1 << setting))], False),
+            ):
+                self.assertIs(Alike(changed).stands(P, P, sayings), told, changed)
+
     def test_masks_with_a_setting_fewer(self):
         for number in range(3):
             for setting in range(16):
